@@ -1,0 +1,1 @@
+"""Elderinn: guests who bear so many elders, and rooms as full as can be."""

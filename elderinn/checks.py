@@ -1,0 +1,37 @@
+"""What is handed in is asked here, once for all files, whether it is refused."""
+
+from elderinn.errors import NoGuest, NoRoom, NoRooms
+
+
+def patience_by_age(guests):
+    """The patience of each age, where no guest is refused."""
+    patience_of = {}
+    for number, (age, patience) in enumerate(guests):
+        if patience < 0 or age in patience_of:
+            raise NoGuest(number)
+        patience_of[age] = patience
+    return patience_of
+
+
+def check_newcomer(patience_of, age, patience):
+    """Refuses who cannot come where those of patience_of are."""
+    if patience < 0 or age in patience_of:
+        raise NoGuest((age, patience))
+
+
+def check_first(j):
+    """Refuses a number of first rooms below 0."""
+    if j < 0:
+        raise NoRooms(j)
+
+
+def check_arrangement(patience_of, arrangement):
+    """Refuses rooms in which not just the ages of patience_of stand, once each."""
+    seen = set()
+    for number, room in enumerate(arrangement):
+        for age in room:
+            if age not in patience_of or age in seen:
+                raise NoRoom(number)
+            seen.add(age)
+    if len(seen) < len(patience_of):
+        raise NoRoom(None)
