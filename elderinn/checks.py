@@ -1,6 +1,6 @@
 """What is handed in is asked here, once for all files, whether it is refused."""
 
-from elderinn.errors import NoGuest, NoRoom, NoRooms
+from elderinn.errors import NoCrowd, NoGuest, NoRoom, NoRooms
 
 
 def patience_by_age(guests):
@@ -20,7 +20,7 @@ def check_newcomer(patience_of, age, patience):
 
 
 def check_first(j):
-    """Refuses a number of first rooms below 0."""
+    """Refuses a number of first rooms, or of guests more, below 0."""
     if j < 0:
         raise NoRooms(j)
 
@@ -35,3 +35,15 @@ def check_arrangement(patience_of, arrangement):
             seen.add(age)
     if len(seen) < len(patience_of):
         raise NoRoom(None)
+
+
+def is_crowd(count, patience):
+    """Whether so many of this patience can be a crowd."""
+    return count >= 1 and patience >= 0
+
+
+def check_crowds(crowds):
+    """Refuses the first of them that cannot be a crowd."""
+    for number, (count, patience) in enumerate(crowds):
+        if not is_crowd(count, patience):
+            raise NoCrowd(number)

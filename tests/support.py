@@ -1,6 +1,8 @@
 """What several test files need: refusals, the rule by age, arrangements."""
 
 from copy import deepcopy
+from itertools import product
+from random import Random
 
 from elderinn.errors import InnError, NoCrowd, NoGuest, NoRoom, NoRooms, NoText
 
@@ -73,3 +75,28 @@ def peaceful(guests):
 
 def greatest_first(arrangement):
     return sorted([len(room) for room in arrangement if room])[::-1]
+
+
+def written_out(crowds):
+    """The guests of crowds one by one, from the eldest on."""
+    patiences = [patience for count, patience in crowds for _ in range(count)]
+    return [(len(patiences) - nth, patience) for nth, patience in enumerate(patiences)]
+
+
+def small_crowds(many, most):
+    """All lists of so many crowds, with counts from 1 and patience from 0 to the most."""
+    kinds = list(product(range(1, most + 1), range(most + 1)))
+    return [list(crowds) for crowds in product(kinds, repeat=many)]
+
+
+def forty_crowds(seed):
+    """Forty crowds with counts of thirty figures and patience of one to thirty figures."""
+    random = Random(seed)
+    return [(random.randrange(10 ** 29, 10 ** 30), random.randrange(10 ** random.randint(1, 30)))
+            for _ in range(40)]
+
+
+def parted(crowds):
+    """The same guests, with each crowd of more than one parted in two."""
+    return [part for count, patience in crowds
+            for part in ([(count, patience)] if count == 1 else [(1, patience), (count - 1, patience)])]

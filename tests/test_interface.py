@@ -9,6 +9,10 @@ FUNCTIONS = {
               "upset": ["guests", "arrangement"]},
     "best": {"sent_away": ["guests", "j"], "is_best": ["guests", "arrangement"], "pairs": ["guests"],
              "one_more": ["guests", "age", "patience"]},
+    "crowds": {"crowd_sizes": ["crowds"], "crowd_in_first": ["crowds", "j"], "room_of": ["crowds", "m"]},
+    "kept": {"kept": ["crowds", "n"], "parting": ["one", "other"]},
+    "texts": {"show_guests": ["guests"], "show_crowds": ["crowds"], "show_rooms": ["rooms"]},
+    "readings": {"read_guests": ["text"], "read_crowds": ["text"], "read_rooms": ["text"]},
 }
 CLASSES = {
     "errors": {"InnError": {}, "NoGuest": {"__init__": ["self", "what"]},

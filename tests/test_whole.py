@@ -4,9 +4,14 @@ import unittest
 from itertools import combinations, permutations, product
 
 from elderinn.best import one_more, pairs, sent_away
+from elderinn.crowds import crowd_in_first, crowd_sizes
 from elderinn.inns import Inn
+from elderinn.kept import kept
+from elderinn.readings import read_guests, read_rooms
 from elderinn.rooms import in_first, rooms, sizes
-from tests.support import greatest_first, partitions, peaceful, rooms_by_age, upset_in
+from elderinn.texts import show_guests, show_rooms
+from tests.support import (forty_crowds, greatest_first, partitions, peaceful, rooms_by_age, small_crowds, upset_in,
+                           written_out)
 
 AGES = (-3, 0, 8, 2, -1)
 
@@ -88,6 +93,63 @@ class OneGuestMore(unittest.TestCase):
             self.assertEqual(after[fuller[0]], before[fuller[0]] + 1)
             others = [guest for guest in guests if guest != newcomer]
             self.assertEqual(one_more(others, *newcomer), fuller[0])
+
+
+def with_one_more(crowds, patience):
+    """Each way to put one guest more into crowds: ahead of all, within each, behind each."""
+    yield [(1, patience), *crowds]
+    for number, (count, borne) in enumerate(crowds):
+        for ahead in {1, count // 2, count - 1, count} - {0}:
+            parts = [(ahead, borne), (1, patience), (count - ahead, borne)]
+            yield crowds[:number] + [part for part in parts if part[0] > 0] + crowds[number + 1:]
+
+
+class OneMoreInCrowds(unittest.TestCase):
+    SMALLS = [crowds for many, most in ((0, 1), (1, 5), (2, 3), (3, 2)) for crowds in small_crowds(many, most)]
+
+    def assert_one_room_one_fuller(self, before, after):
+        """That in the first j live as many as ahead up to a room, and one more from it on."""
+        rooms_asked = range(len(sizes(written_out(after))) + 2)
+        more = [crowd_in_first(after, j) - crowd_in_first(before, j) for j in rooms_asked]
+        room = more.index(1)
+        self.assertEqual(more, [0] * room + [1] * (len(more) - room))
+
+    def test_one_room_one_fuller_and_no_other_one(self):
+        for crowds in self.SMALLS:
+            for patience in range(4):
+                for after in with_one_more(crowds, patience):
+                    self.assert_one_room_one_fuller(crowds, after)
+
+    def test_of_first_rooms_with_any_number_ahead(self):
+        for crowds in self.SMALLS:
+            for patience in range(4):
+                for after in with_one_more(crowds, patience):
+                    for n in range(8):
+                        self.assertIn(kept(after, n) - kept(crowds, n), (0, 1))
+
+    def test_of_crowds_of_any_size(self):
+        crowds = forty_crowds(4)
+        changes = [0]
+        for _, many in crowd_sizes(crowds):
+            changes.append(changes[-1] + many)
+        asked = sorted({j + by for j in changes for by in (0, 1, 2)})
+        before = [crowd_in_first(crowds, j) for j in asked]
+        for number in (0, 17, 39):
+            for patience in (0, 10 ** 15, 10 ** 30 - 1):
+                count, borne = crowds[number]
+                parts = [(1, borne), (1, patience), (count - 1, borne)]
+                after = crowds[:number] + parts + crowds[number + 1:]
+                more = [crowd_in_first(after, j) - many for j, many in zip(asked, before)]
+                self.assertEqual(more, sorted(more))
+                self.assertEqual((more[0], more[-1]), (0, 1))
+
+
+class WrittenAndReadBack(unittest.TestCase):
+    def test_guests_that_are_read_live_in_the_rooms_that_are_read(self):
+        for guests in smalls(4, 3):
+            told = read_guests(show_guests(guests))
+            self.assertEqual(rooms(told), rooms(guests))
+            self.assertEqual(read_rooms(show_rooms(rooms(told))), rooms_by_age(guests))
 
 
 class WhoeverIsThere(unittest.TestCase):
